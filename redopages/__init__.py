@@ -1,0 +1,1 @@
+"""Redopages: redo after a crash when nobody knows the functions."""

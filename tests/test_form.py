@@ -1,0 +1,113 @@
+"""The form of the program: where the interface is defined, and what can be seen of the language's rules."""
+
+import ast
+import inspect
+import os
+import unittest
+
+from redopages import errors, kinds, waits
+
+PACKAGE = os.path.dirname(errors.__file__)
+
+# For each file the functions of the interface, and the classes with the methods that it lists for them.
+FUNCTIONS = {
+    kinds: {"page_text": "(page)"},
+    waits: {"joined": "(*lots)"},
+}
+CLASSES = {
+    kinds: {
+        "Role": {"__init__": "(self, name, group)", "reads": "(self)", "makes": "(self)", "derived": "(self)",
+                 "words": "(self)", "imaged": "(self)"},
+        "Kind": {"__init__": "(self, name, roles)", "role_named": "(self, name)", "pairs": "(self)"},
+        "Catalog": {"__init__": "(self, kinds)", "__len__": "(self)", "__iter__": "(self)", "named": "(self, name)",
+                    "groups": "(self)", "made_groups": "(self)"},
+        "Read": {}, "Made": {}, "Fresh": {}, "Both": {}, "Renewed": {},
+    },
+    waits: {
+        "Waits": {"__init__": "(self, rows)", "__len__": "(self)", "__iter__": "(self)",
+                  "__contains__": "(self, row)", "__eq__": "(self, other)", "__or__": "(self, other)",
+                  "__and__": "(self, other)", "__sub__": "(self, other)", "within": "(self, other)",
+                  "require": "(self, catalog)", "after": "(self, kind, role)", "reach": "(self, kind, role)",
+                  "blocked": "(self, kind, role)"},
+    },
+}
+
+BARRED_NODES = (ast.Global, ast.AsyncFunctionDef, ast.AsyncFor, ast.AsyncWith, ast.Await, ast.Import, ast.Div)
+
+
+def sources():
+    """The names and texts of the files of the package."""
+    found = {}
+    for name in sorted(os.listdir(PACKAGE)):
+        if name != "__pycache__":
+            with open(os.path.join(PACKAGE, name), encoding="utf-8") as file:
+                found[name] = file.read()
+    return found
+
+
+class Interface(unittest.TestCase):
+    def test_functions_are_defined_in_their_files(self):
+        for module, functions in FUNCTIONS.items():
+            for name, signature in functions.items():
+                function = getattr(module, name)
+                self.assertEqual(function.__module__, module.__name__)
+                self.assertEqual(str(inspect.signature(function)), signature)
+
+    def test_classes_and_their_methods_are_defined_in_their_files(self):
+        for module, classes in CLASSES.items():
+            for name, methods in classes.items():
+                shape = getattr(module, name)
+                self.assertEqual(shape.__module__, module.__name__)
+                for method, signature in methods.items():
+                    with self.subTest(name, method=method):
+                        self.assertIn(method, vars(shape))
+                        self.assertEqual(str(inspect.signature(vars(shape)[method])), signature)
+
+
+class Language(unittest.TestCase):
+    def test_the_folder_holds_python_files_with_plain_names_only(self):
+        for name in sources():
+            self.assertRegex(name, r"\A[a-z_][a-z0-9_]*\.py\Z")
+        self.assertIn("__init__.py", sources())
+
+    def test_sizes_and_characters(self):
+        for name, text in sources().items():
+            lines = text.split("\n")
+            self.assertLessEqual(len(lines), 400, name)
+            for line in lines:
+                self.assertLessEqual(len(line), 120, name)
+                self.assertTrue(all(" " <= sign <= "~" for sign in line), (name, line))
+
+    def test_functions_have_at_most_forty_lines(self):
+        for name, text in sources().items():
+            for node in ast.walk(ast.parse(text)):
+                if isinstance(node, ast.FunctionDef):
+                    self.assertLessEqual(node.end_lineno - node.lineno + 1, 40, (name, node.name))
+
+    def test_imports_come_from_the_package_by_full_names(self):
+        for name, text in sources().items():
+            for node in ast.walk(ast.parse(text)):
+                if isinstance(node, ast.ImportFrom):
+                    self.assertEqual(node.level, 0, name)
+                    self.assertTrue(node.module.startswith("redopages."), (name, node.module))
+                    for alias in node.names:
+                        self.assertNotEqual(alias.name, "*", name)
+
+    def test_no_node_or_string_that_is_barred(self):
+        for name, text in sources().items():
+            for node in ast.walk(ast.parse(text)):
+                self.assertNotIsInstance(node, BARRED_NODES, name)
+                if isinstance(node, ast.Constant) and isinstance(node.value, str):
+                    self.assertNotIn("%", node.value, name)
+
+    def test_a_module_holds_nothing_but_definitions_and_plain_values(self):
+        allowed = (ast.ImportFrom, ast.FunctionDef, ast.ClassDef, ast.Assign, ast.Expr)
+        for name, text in sources().items():
+            for node in ast.parse(text).body:
+                self.assertIsInstance(node, allowed, name)
+                if isinstance(node, ast.Expr):
+                    self.assertIsInstance(node.value, ast.Constant, name)
+
+
+if __name__ == "__main__":
+    unittest.main()
