@@ -5,7 +5,7 @@ import inspect
 import os
 import unittest
 
-from redopages import errors, kinds, waits
+from redopages import errors, kinds, logs, redo, store, waits
 
 PACKAGE = os.path.dirname(errors.__file__)
 
@@ -13,6 +13,8 @@ PACKAGE = os.path.dirname(errors.__file__)
 FUNCTIONS = {
     kinds: {"page_text": "(page)"},
     waits: {"joined": "(*lots)"},
+    store: {"crash_run": "(log, waits, disk)", "crash_states": "(log, waits)"},
+    redo: {"history": "(log, contents)", "redo": "(log, disk, contents)", "check": "(log, disk, contents)"},
 }
 CLASSES = {
     kinds: {
@@ -29,6 +31,27 @@ CLASSES = {
                   "__and__": "(self, other)", "__sub__": "(self, other)", "within": "(self, other)",
                   "require": "(self, catalog)", "after": "(self, kind, role)", "reach": "(self, kind, role)",
                   "blocked": "(self, kind, role)"},
+    },
+    logs: {
+        "Contents": {"__init__": "(self)", "__len__": "(self)", "number_of": "(self, formula)",
+                     "formula": "(self, number)", "text": "(self, number, *, depth=2)"},
+        "Step": {"__init__": "(self, number, kind, pages)", "page_at": "(self, role)", "read_pages": "(self)",
+                 "made_pages": "(self)", "__call__": "(self, state)"},
+        "Log": {"__init__": "(self, catalog)", "__len__": "(self)", "__iter__": "(self)",
+                "__getitem__": "(self, number)", "do": "(self, kind, pages)", "versions": "(self, page)",
+                "version_at": "(self, page, number)", "all_pages": "(self)", "lines": "(self)"},
+    },
+    store: {
+        "Disk": {"__init__": "(self)", "__getitem__": "(self, page)", "__setitem__": "(self, page, version)",
+                 "__contains__": "(self, page)", "__len__": "(self)", "__eq__": "(self, other)",
+                 "stamped": "(self)", "copied": "(self)"},
+        "Store": {"__init__": "(self, catalog, waits)", "do": "(self, kind, pages)", "blockers": "(self, page)",
+                  "flush": "(self, page)", "ready": "(self)", "stuck": "(self)",
+                  "play": "(self, events, *, at=None)", "crash": "(self)"},
+    },
+    redo: {
+        "State": {"__init__": "(self, log, disk, contents)", "stamp_of": "(self, page)",
+                  "content_of": "(self, page)", "put": "(self, page, stamp, content)"},
     },
 }
 
