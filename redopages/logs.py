@@ -168,11 +168,11 @@ class Log:
         """Return the version of the page just after the step with this number. Raises NoStep."""
         if not 0 <= number <= len(self.steps):
             raise NoStep(number)
-        return max([version for version in self.versions(page) if version <= number])
+        return [version for version in self.versions(page) if version <= number][-1]
 
     def all_pages(self):
         """Return the ascending list of the pages of all steps."""
-        return sorted(self.uses)
+        return sorted(set(self.uses))
 
     def lines(self):
         """Return a new list with the text of each step."""

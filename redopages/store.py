@@ -36,7 +36,7 @@ class Disk:
 
     def stamped(self):
         """Return the ascending list of the pages whose stamp is greater than 0."""
-        return sorted(self.stamps)
+        return sorted(set(self.stamps))
 
     def copied(self):
         """Return a new disk with the same stamps."""
@@ -111,7 +111,7 @@ class Store:
             for page in free:
                 del waiting[page]
             free = [page for page in waiting if not any([other in waiting for other in waiting[page]])]
-        return sorted(waiting)
+        return sorted(set(waiting))
 
     def perform(self, event):
         """Do the step or the flush that the event asks for. Raises NoKind, BadStep and Held."""

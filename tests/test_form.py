@@ -5,7 +5,7 @@ import inspect
 import os
 import unittest
 
-from redopages import errors, kinds, logs, redo, store, waits
+from redopages import backups, errors, images, judge, kinds, logs, redo, store, waits
 
 PACKAGE = os.path.dirname(errors.__file__)
 
@@ -15,6 +15,11 @@ FUNCTIONS = {
     waits: {"joined": "(*lots)"},
     store: {"crash_run": "(log, waits, disk)", "crash_states": "(log, waits)"},
     redo: {"history": "(log, contents)", "redo": "(log, disk, contents)", "check": "(log, disk, contents)"},
+    judge: {"dangers": "(catalog)", "live": "(catalog, waits)", "exposed": "(catalog, waits)",
+            "wrong_run": "(catalog, waits)", "least_waits": "(catalog)", "sticking_log": "(catalog, waits)"},
+    images: {"with_images": "(catalog, slots)", "cheapest_images": "(catalog, sizes)",
+             "images_price": "(log, slots, sizes)"},
+    backups: {"backup_order": "(catalog, waits)", "wrong_backup": "(catalog, waits, order)"},
 }
 CLASSES = {
     kinds: {
@@ -53,7 +58,16 @@ CLASSES = {
         "State": {"__init__": "(self, log, disk, contents)", "stamp_of": "(self, page)",
                   "content_of": "(self, page)", "put": "(self, page, stamp, content)"},
     },
+    images: {
+        "Price": {"__init__": "(self, size, images)", "__add__": "(self, other)", "__mul__": "(self, other)",
+                  "__rmul__": "(self, other)", "__eq__": "(self, other)", "__lt__": "(self, other)"},
+    },
+    backups: {
+        "Backup": {"__init__": "(self, store, order)", "take": "(self, page)", "advance": "(self)",
+                   "copied": "(self)"},
+    },
 }
+PROPERTIES = [(store.Store, "dirty"), (backups.Backup, "current")]
 
 BARRED_NODES = (ast.Global, ast.AsyncFunctionDef, ast.AsyncFor, ast.AsyncWith, ast.Await, ast.Import, ast.Div)
 
@@ -85,6 +99,11 @@ class Interface(unittest.TestCase):
                     with self.subTest(name, method=method):
                         self.assertIn(method, vars(shape))
                         self.assertEqual(str(inspect.signature(vars(shape)[method])), signature)
+
+    def test_properties_are_defined_in_their_classes(self):
+        for shape, name in PROPERTIES:
+            self.assertIsInstance(vars(shape)[name], property)
+            self.assertIsNone(vars(shape)[name].fset)
 
 
 class Language(unittest.TestCase):
